@@ -1,0 +1,1 @@
+"""Surelywrong: complaints about a text that is still being written."""

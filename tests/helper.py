@@ -1,0 +1,98 @@
+"""What the tests share: the values of the document, odd values, texts, and strict comparisons."""
+
+import random
+import unittest
+
+TEXT = (('open', ('fun', 'num')), ('let', 'x', 'num'), ('use', 'x', 'text'), ('let', 'x', 'num'), ('end',),
+        ('use', 'x', 'num'))
+ALL = ((0, 'falls'), (2, 'use'), (3, 'twice'), (3, 'unused'), (5, 'use'))
+STRAY = (('open', 'if'), ('end',), ('end',), ('stop',))
+ENDS = (('let', 'x', 'a'), ('end',), ('stop',), ('let', 'x', 'a'), ('give', 'a'))
+WORDS = ('after', 'end', 'falls', 'give', 'open', 'stop', 'twice', 'unused', 'use')
+
+
+def deep(depth):
+    """A tuple and a list in turn, nested so deep."""
+    thing = 'x'
+    for k in range(depth):
+        thing = (thing,) if k % 2 else [thing]
+    return thing
+
+
+# Of every kind that the document calls "any value".
+ODD = (
+    None, True, False, 0, 1, -1, 7, 10 ** 59, -(10 ** 59), '', 'x', 'let', '-', '0', '3:use', 'end\nstop', ' ',
+    (), [], (0,), [0], (1, 0), (0, 0), (True,), (None,), ('end',), ['end'], (('end',),), [('end',)], (['end'],),
+    ('let', 'x'), ('let', 'x', ''), ('let', 'x', 'num', 'num'), ('open', 'while'), ('open', ['fun', 'a']),
+    (('stop',), ('stop', 'x')), ((0, (('end',),)),), ((0, 'use'),), (0, 'use'), ('fun', 'a'), deep(30), (deep(29), 0),
+)
+
+
+def same(one, other):
+    """Whether two values are equal and all their parts are of equal kinds."""
+    if type(one) is not type(other):
+        return False
+    if isinstance(one, (tuple, list)):
+        return len(one) == len(other) and all(same(a, b) for a, b in zip(one, other))
+    return one == other
+
+
+def is_gap_set(thing, most):
+    """Whether a value is a set of numbers that are at most so great, told apart from the program."""
+    return (type(thing) is tuple and all(type(gap) is int and 0 <= gap <= most for gap in thing)
+            and list(thing) == sorted(set(thing)))
+
+
+class Case(unittest.TestCase):
+    """Comparisons in which True is not 1, a list no tuple, and arguments stay as they are."""
+
+    def told(self, answer, call, *args, **named):
+        """The call returns just this answer, of just this kind, and changes no argument."""
+        before = repr((args, named))
+        result = call(*args, **named)
+        self.assertTrue(same(result, answer), f'{call} {args} {named}: {result!r}, not {answer!r}')
+        self.assertEqual(repr((args, named)), before)
+
+    def refused(self, error, fields, call, *args, **named):
+        """The call raises just this error, with just these fields in their order."""
+        before = repr((args, named))
+        with self.assertRaises(error, msg=f'{call} {args!r} {named!r}') as caught:
+            call(*args, **named)
+        self.assertIs(type(caught.exception), error)
+        found = tuple(vars(caught.exception).values())
+        self.assertTrue(same(found, fields), f'{call} {args} {named}: {found!r}, not {fields!r}')
+        self.assertEqual(repr((args, named)), before)
+
+
+SORTS = ('if', 'if', 'loop', ('fun', ''), ('fun', 'a'), ('fun', 'b'))
+NAMES = ('x', 'x', 'y', 'end')
+KINDS = ('a', 'b')
+
+
+def some_row(chance):
+    """A row, ends and open rows often enough for blocks to be nested and closed."""
+    word = chance.choice(('open', 'open', 'end', 'end', 'let', 'let', 'use', 'use', 'stop', 'give'))
+    if word == 'open':
+        return (word, chance.choice(SORTS))
+    if word in ('let', 'use'):
+        return (word, chance.choice(NAMES), chance.choice(KINDS))
+    if word == 'give':
+        return (word, chance.choice(('', *KINDS)))
+    return (word,)
+
+
+def some_texts(many, longest, seed=1):
+    """So many texts with at most so many rows; the same ones each time."""
+    chance = random.Random(seed)
+    return [tuple(some_row(chance) for _ in range(chance.randint(0, longest))) for _ in range(many)]
+
+
+def few_row_texts(most):
+    """All texts of at most so many of a few rows."""
+    rows = (('open', 'if'), ('open', 'loop'), ('open', ('fun', 'a')), ('end',), ('let', 'x', 'a'), ('use', 'x', 'b'),
+            ('stop',), ('give', 'a'))
+    texts = last = [()]
+    for _ in range(most):
+        last = [(*text, row) for text in last for row in rows]
+        texts = texts + last
+    return texts
