@@ -64,9 +64,10 @@ class Case(unittest.TestCase):
         self.assertEqual(repr((args, named)), before)
 
 
-SORTS = ('if', 'if', 'loop', ('fun', ''), ('fun', 'a'), ('fun', 'b'))
-NAMES = ('x', 'x', 'y', 'end')
-KINDS = ('a', 'b')
+SORTS = ('if', 'if', 'loop', 'loop', ('fun', ''), ('fun', 'a'), ('fun', 'b'), ('fun', 'loop'))
+# Names and kinds may be words that rows begin with, too.
+NAMES = ('x', 'x', 'x', 'y', 'y', 'end', 'let')
+KINDS = ('a', 'a', 'a', 'b', 'b', 'b', 'end', 'open', 'let', 'use', 'stop', 'give')
 
 
 def some_row(chance):

@@ -1,6 +1,9 @@
 """Blocks, finding and complaints once more, slowly and by the words of points 3 to 5, to compare with."""
 
+from functools import lru_cache
 
+
+@lru_cache(maxsize=None)
 def end_row(text, row):
     """The end row that closes the block of this open row: the first one behind it that is left over."""
     depth = 1
@@ -15,18 +18,21 @@ def opens(text):
     return [row for row in range(len(text)) if text[row][0] == 'open']
 
 
+@lru_cache(maxsize=None)
 def stray_ends(text):
     """The end rows that close no block, so each of them a ground."""
     closing = [end_row(text, row) for row in opens(text)]
     return [row for row in range(len(text)) if text[row] == ('end',) and row not in closing]
 
 
+@lru_cache(maxsize=None)
 def blocks_around(text, row):
     """The open rows of the blocks that a row stands in, from the outside in."""
     ends = {block: end_row(text, block) for block in opens(text) if block < row}
     return [block for block, end in ends.items() if end is None or row <= end]
 
 
+@lru_cache(maxsize=None)
 def ground(text, row):
     return max([-1, *[end for end in stray_ends(text) if end < row]])
 
@@ -35,11 +41,13 @@ def level(text, row):
     return (blocks_around(text, row) or [ground(text, row)])[-1]
 
 
+@lru_cache(maxsize=None)
 def places(text):
     """The block or ground of each row."""
     return [level(text, row) for row in range(len(text))]
 
 
+@lru_cache(maxsize=None)
 def found_let(text, row):
     at = places(text)
     for block in [*blocks_around(text, row)[::-1], ground(text, row)]:
@@ -49,11 +57,13 @@ def found_let(text, row):
     return None
 
 
+@lru_cache(maxsize=None)
 def function(text, row):
     around = [block for block in blocks_around(text, row) if text[block][1][0] == 'fun']
     return max(around, default=None)
 
 
+@lru_cache(maxsize=None)
 def loop(text, row):
     inside = function(text, row)
     around = [block for block in blocks_around(text, row) if text[block][1] == 'loop']
@@ -92,3 +102,8 @@ def complaint_test(text, row, word):
     if word == 'open':
         return kind == 'open' and end_row(text, row) is None
     return kind == 'end' and row in stray_ends(text)
+
+
+def complaints(text, words):
+    """All complaints of a text, ascending."""
+    return tuple((row, word) for row in range(len(text)) for word in words if complaint_test(text, row, word))

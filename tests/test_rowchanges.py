@@ -5,7 +5,7 @@ from surelywrong.errors import NotUsable
 from surelywrong.kinds import is_row, is_sort, is_text
 from surelywrong.rowchanges import put_in, rekinded, renamed, with_row, without_row, wrapped
 from tests import oracle
-from tests.helper import Case, NAMES, ODD, TEXT, few_row_texts, some_texts
+from tests.helper import Case, ODD, TEXT, few_row_texts, some_texts
 
 STOP = ('stop',)
 FUNS = (('open', ('fun', 'a')), ('open', ('fun', '')), ('give', 'a'), ('give', ''), ('let', 'a', 'a'), ('use', 'b', 'b'),
@@ -67,6 +67,12 @@ class Names(Case):
                   rekinded, FUNS, ('a', 'c'))
         self.told(FUNS, rekinded, FUNS)
         self.told(FUNS, rekinded, FUNS, ('fun', 'x'), ('give', 'y'), ('loop', 'z'), ('if', 'w'))
+
+    def test_with_words_that_rows_begin_with(self):
+        text = (('let', 'end', 'let'), ('use', 'let', 'end'), ('give', 'give'), ('open', ('fun', 'fun')))
+        self.told((('let', 'x', 'let'), ('use', 'y', 'end'), *text[2:]), renamed, text, ('end', 'x'), ('let', 'y'))
+        self.told((text[0], ('use', 'let', 'x'), *text[2:]), rekinded, text, ('end', 'x'))
+        self.told((*text[:2], ('give', 'x'), ('open', ('fun', 'y'))), rekinded, text, ('give', 'x'), ('fun', 'y'))
 
     def test_all_at_once_and_not_one_behind_the_other(self):
         text = (('let', 'x', 'a'), ('let', 'y', 'b'), ('let', 'z', 'c'))
@@ -150,6 +156,6 @@ class Consequences(Case):
 
     def test_exchanged_twice(self):
         for text in some_texts(30, 20):
-            for change, (one, other) in ((renamed, NAMES[1:3]), (rekinded, ('a', 'b'))):
+            for change, (one, other) in ((renamed, ('x', 'y')), (rekinded, ('a', 'b'))):
                 pairs = ((one, other), (other, one))
                 self.told(text, change, change(text, *pairs), *pairs)
