@@ -37,13 +37,7 @@ def reign_of(text, row):
     """The first and the last gap of the reign of a let."""
     check_text(text)
     check_row_like(text, row, "let")
-    chains = chains_of(text)
-    for later in range(row + 1, len(text)):
-        # An end row is at the level of what it closes.
-        ends = text[later][0] == "end" or text[later][:2] == text[row][:2]
-        if ends and chains[later][-1] == chains[row][-1]:
-            return (row + 1, later)
-    return (row + 1, len(text))
+    return reign_in(text, chains_of(text), row)
 
 
 def lets_found(text, chains):
@@ -58,6 +52,16 @@ def lets_found(text, chains):
             seen = [let for let in lets if let is not None]
             found[row] = seen[-1] if seen else None
     return found
+
+
+def reign_in(text, chains, row):
+    """The first and the last gap of the reign of a row that is a let."""
+    for later in range(row + 1, len(text)):
+        # An end row is at the level of what it closes.
+        ends = text[later][0] == "end" or text[later][:2] == text[row][:2]
+        if ends and chains[later][-1] == chains[row][-1]:
+            return (row + 1, later)
+    return (row + 1, len(text))
 
 
 def function_in(text, chain):

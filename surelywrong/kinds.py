@@ -71,9 +71,9 @@ def is_text(thing):
     return isinstance(thing, tuple) and all([is_row(row) for row in thing])
 
 
-def is_ascending(numbers):
-    """Whether each of these numbers is greater than the one before."""
-    return all([low < high for low, high in zip(numbers, numbers[1:])])
+def is_ascending(things):
+    """Whether each of these numbers, or of these complaints, is greater than the one before."""
+    return all([low < high for low, high in zip(things, things[1:])])
 
 
 def is_gaps(thing):
@@ -84,6 +84,11 @@ def is_gaps(thing):
 def is_complaint(thing):
     """Whether any value is a pair of a number and one of the nine words."""
     return is_pair(thing) and is_number(thing[0]) and is_one_of(thing[1], COMPLAINT_WORDS)
+
+
+def is_complaints(thing):
+    """Whether any value is a tuple of pairs of a number and one of the nine words, ascending."""
+    return isinstance(thing, tuple) and all([is_complaint(pair) for pair in thing]) and is_ascending(thing)
 
 
 def is_way_step(thing):

@@ -1,7 +1,7 @@
 """What is raised for arguments that cannot be used."""
 
 from surelywrong.errors import NotUsable
-from surelywrong.kinds import is_gaps, is_number, is_row
+from surelywrong.kinds import is_complaint, is_complaints, is_gaps, is_number, is_row, is_way
 
 
 def check_rows(word, rows):
@@ -41,6 +41,26 @@ def check_gap(text, gap):
     """Raise NotUsable if the text has no such gap."""
     if not is_gap_of(text, gap):
         raise NotUsable("gap", gap)
+
+
+def check_complaint(complaints, complaint):
+    """Raise NotUsable if this is none of the complaints of a text."""
+    if not is_complaint(complaint) or complaint not in complaints:
+        raise NotUsable("complaint", complaint)
+
+
+def check_some(complaints, some):
+    """Raise NotUsable if some is no set of these complaints of a text."""
+    if not is_complaints(some):
+        raise NotUsable("some", -1)
+    for complaint in some:
+        check_complaint(complaints, complaint)
+
+
+def check_way(text, way):
+    """Raise NotUsable if way is no way at the gaps of the text."""
+    if not is_way(way) or not all([is_gap_of(text, gap) for gap, _ in way]):
+        raise NotUsable("way", -1)
 
 
 def is_gap_of(text, gap):

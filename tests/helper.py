@@ -3,6 +3,8 @@
 import random
 import unittest
 
+from surelywrong.errors import NotUsable
+
 TEXT = (('open', ('fun', 'num')), ('let', 'x', 'num'), ('use', 'x', 'text'), ('let', 'x', 'num'), ('end',),
         ('use', 'x', 'num'))
 ALL = ((0, 'falls'), (2, 'use'), (3, 'twice'), (3, 'unused'), (5, 'use'))
@@ -63,6 +65,47 @@ class Case(unittest.TestCase):
         self.assertTrue(same(found, fields), f'{call} {args} {named}: {found!r}, not {fields!r}')
         self.assertEqual(repr((args, named)), before)
 
+    def unusable(self, call, **good):
+        """Each parameter in turn is told if it is not usable, whatever those behind it are."""
+        bad, names = bad_values(), list(good)
+        for k, name in enumerate(names):
+            later = [bad.get(other, [(None, ())]) for other in names[k + 1:]]
+            for j, (thing, fields) in enumerate(bad.get(name, ())):
+                args = [*list(good.values())[:k], thing]
+                self.refused(NotUsable, fields, call, *args, *list(good.values())[k + 1:])
+                self.refused(NotUsable, fields, call, *args, *[wrong[j % len(wrong)][0] for wrong in later])
+                self.refused(NotUsable, fields, call, **{**good, name: thing})
+
+
+END, STOP = (('end',),), (('stop',),)
+BAD_TEXTS = ((('end',), ('end', ''), 0), (*TEXT, ['end']), ('end',))
+BAD_CARETS = ((2, 7), (7,), (0, True), (2, 0), (2, 2), [2], (2, '4'), (-1, 2), 2)
+BAD_COMPLAINTS = ((0, 'use'), (1, 'unused'), (2, 'twice'), (6, 'use'), (False, 'falls'), [2, 'use'], (2, ['use']), (2, 'use', 0),
+                  (2, 'uses'), ('2', 'use'), ALL)
+BAD_SOMES = (list(ALL), ALL[::-1], (ALL[0], ALL[0]), (*ALL, (7, 'uses')), (*ALL, (7,)), (*ALL, 7), (*ALL, [7, 'use']), ALL[0], (ALL,),
+             ((False, 'falls'),), ((-1, 'use'),), (ALL[1], (1, 'let')), ((9, 'use'), (2, 'use')), ((1, ('use',)),))
+# Sets of complaints, but not of TEXT: the first one that it does not have.
+OTHER_SOMES = ((((0, 'use'),), (0, 'use')), (((1, 'unused'), (2, 'use')), (1, 'unused')), (((10 ** 59, 'use'),), (10 ** 59, 'use')),
+               ((*ALL[:2], (3, 'stop'), (99, 'end')), (3, 'stop')))
+BAD_WAYS = (((7, END),), ((0, ()),), ((2, END), (0, END)), ((2, END), (2, END)), ((True, END),), [(2, END)], ((2, list(END)),),
+            ([2, END],), ((2, (*END, 'end')),), ((2, END), (7, STOP)), (2, END), ((-1, END),), ((2, ('end',)),), ((2, END, 0),))
+
+
+def bad_values():
+    """For each parameter values that are not usable with TEXT, each with the fields of NotUsable that they bring."""
+    texts = [thing for thing in (*ODD, list(TEXT)) if type(thing) is not tuple]
+    rows = [thing for thing in (*ODD, 6) if type(thing) is not int or not 0 <= thing < 6]
+    somes = [thing for thing in (*ODD, *BAD_SOMES) if thing != () and thing != ((0, 'use'),)]
+    ways = [thing for thing in (*ODD, *BAD_WAYS) if thing not in ((), ((0, END),))]
+    return {
+        'text': [*[(thing, ('text', -1)) for thing in texts], *zip(BAD_TEXTS, (('text', 1), ('text', 6), ('text', 0)))],
+        'carets': [(thing, ('carets', -1)) for thing in (*ODD, *BAD_CARETS) if not is_gap_set(thing, 6)],
+        'row': [(thing, ('row', thing)) for thing in rows],
+        'complaint': [(thing, ('complaint', thing)) for thing in (*ODD, *BAD_COMPLAINTS)],
+        'some': [*[(thing, ('some', -1)) for thing in somes], *[(thing, ('complaint', one)) for thing, one in OTHER_SOMES]],
+        'way': [(thing, ('way', -1)) for thing in ways],
+    }
+
 
 SORTS = ('if', 'if', 'loop', 'loop', ('fun', ''), ('fun', 'a'), ('fun', 'b'), ('fun', 'loop'))
 # Names and kinds may be words that rows begin with, too.
@@ -86,6 +129,18 @@ def some_texts(many, longest, seed=1):
     """So many texts with at most so many rows; the same ones each time."""
     chance = random.Random(seed)
     return [tuple(some_row(chance) for _ in range(chance.randint(0, longest))) for _ in range(many)]
+
+
+def some_way(chance, carets, most=4):
+    """A way at some of these carets, with up to so many rows at each."""
+    told = [(caret, tuple(some_row(chance) for _ in range(chance.randint(0, most)))) for caret in carets]
+    return tuple((caret, rows) for caret, rows in told if rows)
+
+
+def some_carets(chance, text, most=4):
+    """A set of up to so many gaps of a text."""
+    gaps = range(len(text) + 1)
+    return tuple(sorted(chance.sample(gaps, chance.randint(0, min(most, len(gaps))))))
 
 
 def few_row_texts(most):

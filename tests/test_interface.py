@@ -16,13 +16,22 @@ FUNCTIONS = {
     'rowreadings': {'row_read': 'line', 'text_read': 'lines', 'gaps_read': 'words', 'complaint_read': 'word'},
     'finding': {name: 'text row' for name in ('let_found', 'uses_of', 'function_of', 'loop_of', 'reign_of')},
     'complaining': {'complaints_of': 'text', 'words_at': 'text row', 'complaints_by': 'text'},
+    'stretching': {'cause_of': 'text complaint', 'stretch_of': 'text complaint'},
+    'growing': {'grown': 'text way', 'moved': 'text way row', 'old_row': 'text way row', 'gone_by': 'text way', 'new_by': 'text way'},
+    'sureness': {'is_sure': 'text carets complaint', 'sure_ones': 'text carets', 'held_ones': 'text carets',
+                 'taking_away': 'text carets complaint'},
+    'layering': {name: 'text carets row' for name in ('segment_of', 'layer_of', 'rows_of_layer')},
+    'laddering': {name: 'text carets some' for name in ('is_ladder', 'a_ladder', 'ladders_of', 'how_many_ladders')},
 }
 METHODS = {
     ('texts', 'Text'): {'__init__': 'self rows', 'read': 'cls lines', 'of_rows': '*rows'},
     ('drafts', 'Draft'): {'__init__': 'self rows', 'insert_row': 'self gap row', 'take_row': 'self row',
                           'wrap': 'self first last sort', 'frozen': 'self'},
     ('gapsets', 'Gaps'): {'__init__': 'self *gaps', 'lies_in': 'self other', 'all_of': 'cls text', 'read': 'cls words'},
+    ('growths', 'Growth'): {'__init__': 'self text way', '__add__': 'self other', '__contains__': 'self thing', '__len__': 'self',
+                            '__eq__': 'self other', '__str__': 'self'},
 }
+PROPERTIES = {('texts', 'Text'): 'rows', ('gapsets', 'Gaps'): 'members', ('growths', 'Growth'): 'rows way gone fresh'}
 
 
 def parameters(function):
@@ -49,3 +58,9 @@ class Interface(unittest.TestCase):
             for method, expected in methods.items():
                 function = vars(made)[method]
                 self.assertEqual(parameters(getattr(function, '__func__', function)), expected, method)
+
+    def test_properties(self):
+        for (module, name), told in PROPERTIES.items():
+            made = getattr(importlib.import_module('surelywrong.' + module), name)
+            for one in told.split():
+                self.assertIsInstance(vars(made)[one], property)
