@@ -3,6 +3,7 @@
 import random
 import unittest
 
+from surelywrong.complaining import complaints_of
 from surelywrong.errors import NotUsable
 
 TEXT = (('open', ('fun', 'num')), ('let', 'x', 'num'), ('use', 'x', 'text'), ('let', 'x', 'num'), ('end',),
@@ -10,6 +11,7 @@ TEXT = (('open', ('fun', 'num')), ('let', 'x', 'num'), ('use', 'x', 'text'), ('l
 ALL = ((0, 'falls'), (2, 'use'), (3, 'twice'), (3, 'unused'), (5, 'use'))
 STRAY = (('open', 'if'), ('end',), ('end',), ('stop',))
 ENDS = (('let', 'x', 'a'), ('end',), ('stop',), ('let', 'x', 'a'), ('give', 'a'))
+LET, IF = ('let', 'x', 'a'), ('open', 'if')
 WORDS = ('after', 'end', 'falls', 'give', 'open', 'stop', 'twice', 'unused', 'use')
 
 
@@ -152,3 +154,35 @@ def few_row_texts(most):
         last = [(*text, row) for text in last for row in rows]
         texts = texts + last
     return texts
+
+
+def changed(chance, thing):
+    """A value with something left out, doubled, put elsewhere or replaced in it, at any depth."""
+    if isinstance(thing, tuple) and thing and chance.random() < 0.85:
+        k = chance.randrange(len(thing))
+        part = thing[k]
+        new = chance.choice(((), (part, part), None, None, None, None, None))
+        if new is None:
+            new = (changed(chance, part),)
+        return (*thing[:k], *new, *thing[k + 1:])
+    if type(thing) is int and chance.random() < 0.7:
+        return thing + chance.choice((-1, 1, 1, 2))
+    if type(thing) is str and chance.random() < 0.7:
+        return chance.choice((*WORDS, 'a', 'b', '', 'x', 'y', 'name', 'fun', 'goes', 'stays', 'left'))
+    if isinstance(thing, tuple) and chance.random() < 0.6:
+        return chance.choice((thing[::-1], list(thing), (*thing, 0), (thing,)))
+    return chance.choice(ODD)
+
+
+def small_cases(many, most, seed):
+    """Texts with carets and up to so many of their complaints, often with ladders, and of all words."""
+    chance = random.Random(seed)
+    ahead = [(LET, IF, LET, IF, LET), (LET, ('open', ('fun', 'c')), IF, LET), ()]
+    dense = [[('give', 'a'), ('give', 'b'), ('stop',), ('stop',), ('end',)], [('end',), LET, ('use', 'x', 'b'), ('use', 'x', 'c')],
+             [IF, ('end',), ('stop',), LET, ('use', 'x', 'a'), ('use', 'x', 'b'), ('give', 'num')]]
+    for k in range(many):
+        before = ahead[k % 3]
+        text = before + tuple(chance.choice(dense[k // 3 % 3]) for _ in range(9)) if k % 5 else some_texts(1, 12, seed=seed + k)[0]
+        for carets in ((min(len(before), len(text)),), some_carets(chance, text, 3)):
+            complaints = [one for one in complaints_of(text) if one[1] in ('use', 'twice', 'give', 'stop') or chance.random() < 0.4]
+            yield text, carets, tuple(sorted(chance.sample(complaints, min(len(complaints), most))))

@@ -21,6 +21,13 @@ FUNCTIONS = {
     'sureness': {'is_sure': 'text carets complaint', 'sure_ones': 'text carets', 'held_ones': 'text carets',
                  'taking_away': 'text carets complaint'},
     'layering': {name: 'text carets row' for name in ('segment_of', 'layer_of', 'rows_of_layer')},
+    'going': {'can_go': 'text carets some', 'going_way': 'text carets some'},
+    'goingpapers': {'going_paper': 'text carets some'},
+    'goingchecker': {'lets_going': 'text carets some thing'},
+    'leaving': {'fewest_left': 'text carets some', 'most_gone': 'text carets some', 'is_full': 'text carets some part',
+                'filled_up': 'text carets some part'},
+    'leavingpapers': {'leaving_paper': 'text carets some'},
+    'leavingchecker': {'lets_leaving': 'text carets some thing'},
     'laddering': {name: 'text carets some' for name in ('is_ladder', 'a_ladder', 'ladders_of', 'how_many_ladders')},
 }
 METHODS = {

@@ -1,14 +1,13 @@
 """Points 37 to 39, with points 8 and 10: ladders."""
 
 import inspect
-import random
 
 from surelywrong.complaining import complaints_of
 from surelywrong.errors import NotUsable
 from surelywrong.laddering import a_ladder, how_many_ladders, is_ladder, ladders_of
 from surelywrong.sureness import held_ones
 from tests import oracle
-from tests.helper import ALL, Case, ENDS, STRAY, TEXT, few_row_texts, some_carets, some_texts
+from tests.helper import ALL, Case, ENDS, STRAY, TEXT, few_row_texts, small_cases
 
 RUNGS = ((2, 'use'), (3, 'twice'), (5, 'use'))
 GIVES = (('give', 'num'), ('stop',), ('stop',), ('end',), ('give', 'text'), ('give', ''))
@@ -169,17 +168,11 @@ class Numbers(Case):
 
 
 def some_cases():
-    """Texts with carets and up to ten of their complaints."""
-    chance = random.Random(22)
-    ahead = [(LET, IF, LET, IF, LET), (LET, ('open', ('fun', 'c')), IF, LET), ()]
-    dense = [[('give', 'a'), ('give', 'b'), STOP, STOP, END], [END, LET, OTHER, ('use', 'x', 'c')], [IF, END, STOP, LET, USE, OTHER, GIVES[0]]]
-    mixed = [(ahead[k % 3], tuple(chance.choice(dense[k // 3 % 3]) for _ in range(9))) for k in range(270)]
-    plain = [((), text) for text in (TEXT, STRAY, ENDS, LAYERS, *few_row_texts(2), *some_texts(60, 12, seed=23))]
-    for before, behind in plain + mixed:
-        text = before + behind
-        for carets in ((len(before),), some_carets(chance, text), some_carets(chance, text, 1)):
-            held = [one for one in complaints_of(text) if one[1] in ('use', 'twice', 'give', 'stop') or chance.random() < 0.2]
-            yield text, carets, tuple(sorted(chance.sample(held, min(len(held), 9))))
+    """Texts with carets and up to nine of their complaints."""
+    for k, text in enumerate((TEXT, STRAY, ENDS, LAYERS, *few_row_texts(2))):
+        for carets in ((k % (len(text) + 1),), (0, len(text)) if text else ()):
+            yield text, carets, complaints_of(text)[:9]
+    yield from small_cases(300, 9, seed=22)
 
 
 class Compared(Case):
