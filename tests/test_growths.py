@@ -83,6 +83,9 @@ class Equality(Case):
         self.told(True, operator.eq, growth, Growth(TEXT, ()) + WAY)
         # The same grown text, of another text.
         self.told(False, operator.eq, growth, Growth(grown(TEXT, WAY), ()))
+        # The same way, of another text.
+        self.told(False, operator.eq, growth, Growth(TEXT[:5], WAY))
+        self.told(False, operator.eq, Growth((), ()), Growth((STOP,), ()))
         self.told(False, operator.eq, Growth((STOP,), ((0, (STOP,)),)), Growth((STOP,), ((1, (STOP,)),)))
         for thing in (*THINGS, TEXT, WAY, (TEXT, WAY)):
             self.told(False, operator.eq, growth, thing)

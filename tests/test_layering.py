@@ -38,6 +38,7 @@ class Ends(Case):
     def test_of_blocks_opened_in_the_segment(self):
         self.layers((IF, STOP, END, STOP), (0,), 0, 0, 0, 0)
         self.layers((IF, IF, END, IF, END, END, STOP), (1,), None, 0, 0, 0, 0, 0, 1)
+        self.layers((IF, ('let', 'end', 'end'), ('use', 'open', 'end'), END, STOP), (0,), 0, 0, 0, 0, 0)
 
     def test_of_blocks_opened_in_the_segment_before(self):
         self.layers((IF, STOP, END, STOP), (0, 1), 0, 0, 0, 1)
