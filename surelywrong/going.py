@@ -21,7 +21,12 @@ def going_way(text, carets, some):
 
 def can_go_in(text, stretches, carets, some):
     """What can_go returns, for what is known to be usable."""
-    return not sure_among(stretches, carets, some) and not ladder_among(text, carets, some)
+    return not staying_part(text, stretches, carets, some)
+
+
+def staying_part(text, stretches, carets, some):
+    """One sure complaint of a set, or else a ladder that is in it, () if there is none: it can go then."""
+    return sure_among(stretches, carets, some)[:1] or ladder_among(text, carets, some)
 
 
 def way_in(text, carets, some):

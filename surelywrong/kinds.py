@@ -45,6 +45,11 @@ def is_pair(thing):
     return isinstance(thing, tuple) and len(thing) == 2
 
 
+def is_triple(thing):
+    """Whether any value is a tuple of three values."""
+    return isinstance(thing, tuple) and len(thing) == 3
+
+
 def is_sort(thing):
     """Whether any value says what a block can be."""
     if is_pair(thing):

@@ -2,10 +2,10 @@
 
 from surelywrong.errors import NotUsable
 from surelywrong.going import can_go_in
-from surelywrong.kinds import is_complaints
 from surelywrong.laddering import links_of, tracks_of
 from surelywrong.layering import places_of
-from surelywrong.sureness import held_among, some_stretches, sure_among
+from surelywrong.sureness import held_among, some_stretches
+from surelywrong.usable import is_part_of
 
 
 def fewest_left(text, carets, some):
@@ -38,9 +38,7 @@ def filled_up(text, carets, some, part):
 
 def is_part_that_goes(text, stretches, carets, some, part):
     """Whether any value is a set of complaints of some that can go."""
-    if not is_complaints(part) or not all([complaint in some for complaint in part]):
-        return False
-    return can_go_in(text, stretches, carets, part)
+    return is_part_of(some, part) and can_go_in(text, stretches, carets, part)
 
 
 def filled_in(text, stretches, carets, some, part):

@@ -1,7 +1,7 @@
 """A checker of papers that show how many complaints of a set stay."""
 
 from surelywrong.errors import InvalidPaper
-from surelywrong.kinds import is_ascending, is_kind, is_name, is_number, is_one_of, is_pair
+from surelywrong.kinds import is_ascending, is_kind, is_name, is_number, is_one_of, is_pair, is_triple
 from surelywrong.laddering import tracks_of
 from surelywrong.layering import places_of
 from surelywrong.leaving import is_part_that_goes, kinds_of, layers_behind, next_numbers
@@ -31,11 +31,6 @@ def lets_leaving(text, carets, some, thing):
     if least != len(some) - len(part):
         raise InvalidPaper("sum", -1)
     return least
-
-
-def is_triple(thing):
-    """Whether any value is a tuple of three values."""
-    return isinstance(thing, tuple) and len(thing) == 3
 
 
 def is_leaving_paper(thing):

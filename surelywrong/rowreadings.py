@@ -24,16 +24,11 @@ def text_read(lines):
 def gaps_read(words):
     """The set of numbers that a string writes."""
     check_string("words", words)
-    first, *more = words.split(" ")
-    if first == "-":
-        check_no_more(more)
-        return ()
-    gaps = []
-    for field, word in enumerate([first, *more]):
-        if not is_numeral(word) or (gaps and int(word) <= gaps[-1]):
-            raise InvalidText(0, field)
-        gaps.append(int(word))
-    return tuple(gaps)
+    parts = words.split(" ")
+    field = fault_of_gaps(parts)
+    if field is not None:
+        raise InvalidText(0, field)
+    return gaps_of_words(parts)
 
 
 def complaint_read(word):
@@ -65,6 +60,26 @@ def is_numeral(word):
     if not 1 <= len(word) <= MOST_DIGITS or not all([digit in DIGITS for digit in word]):
         return False
     return word == "0" or word[0] != "0"
+
+
+def fault_of_gaps(words, most=None):
+    """The index of the first word that no set of numbers has there; None for a set.
+
+    With most, no number is greater than that.
+    """
+    if words[0] == "-":
+        return 1 if len(words) > 1 else None
+    least = 0
+    for field, word in enumerate(words):
+        if not is_numeral(word) or int(word) < least or (most is not None and int(word) > most):
+            return field
+        least = int(word) + 1
+    return None
+
+
+def gaps_of_words(words):
+    """The set of numbers that has these words."""
+    return () if words[0] == "-" else tuple([int(word) for word in words])
 
 
 def row_of_words(line, words):

@@ -20,7 +20,7 @@ def check_text(text):
 
 def check_carets(text, carets):
     """Raise NotUsable if carets is no set of gaps of the text."""
-    if not is_gaps(carets) or not all([is_gap_of(text, caret) for caret in carets]):
+    if not is_gaps_of(text, carets):
         raise NotUsable("carets", -1)
 
 
@@ -66,3 +66,13 @@ def check_way(text, way):
 def is_gap_of(text, gap):
     """Whether any value is a gap of the text."""
     return is_number(gap) and gap <= len(text)
+
+
+def is_gaps_of(text, thing):
+    """Whether any value is a set of gaps of the text."""
+    return is_gaps(thing) and all([is_gap_of(text, gap) for gap in thing])
+
+
+def is_part_of(some, thing):
+    """Whether any value is a set of complaints of some."""
+    return is_complaints(thing) and all([complaint in some for complaint in thing])

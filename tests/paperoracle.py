@@ -1,4 +1,4 @@
-"""Points 41 and 49 once more, by the words of the document: the first fault of a paper, None if it is right.
+"""Points 41, 49 and 53 once more, by the words of the document: the first fault of a paper, None if it is right.
 
 A paper is looked at for a text, carets and a set of complaints that are usable.
 """
@@ -122,3 +122,30 @@ def leaving_fault(text, carets, some, thing, ladders):
     least = sum(min(number for _, number in walk[2][-1]) for walk in walks)
     least += sum(oracle.sure(text, carets, one) for one in some)
     return None if least == len(some) - len(part) else ('sum', -1)
+
+
+def can_go(text, carets, some):
+    """Whether some can go, by (S2) and the words of points 7 and 8."""
+    return oracle.goes(text, carets, some, oracle.ladders(text, carets, some))
+
+
+def is_span(text, thing):
+    return (is_tuple(thing, 2) and all(is_number(gap) and gap <= len(text) for gap in thing)) and thing[0] <= thing[1]
+
+
+def span_fault(text, some, thing):
+    """The fault of a span paper."""
+    if not is_tuple(thing, 3) or type(thing[0]) is not str or thing[0] != 'carets' or not is_tuple(thing[1]) or not is_tuple(thing[2]):
+        return ('shape', -1)
+    _, gaps, spans = thing
+    if not all(is_tuple(element, 2) for element in spans):
+        return ('shape', -1)
+    if not is_gap_set(gaps, len(text)) or not can_go(text, gaps, some):
+        return ('carets', -1)
+    for k, (span, part) in enumerate(spans):
+        if not is_span(text, span) or (k > 0 and span[0] <= spans[k - 1][0][1]):
+            return ('span', k)
+        outside = tuple(gap for gap in range(len(text) + 1) if gap not in range(span[0], span[1] + 1))
+        if not is_set_of_pairs(part) or not set(part) <= set(some) or can_go(text, outside, part):
+            return ('part', k)
+    return None if len(spans) == len(gaps) else ('sum', -1)

@@ -2,7 +2,15 @@
 
 import importlib
 import inspect
+import pathlib
+import re
 import unittest
+
+from surelywrong.drafts import Draft
+from surelywrong.texts import Text
+from surelywrong.writings import Writing
+
+DOCUMENT = pathlib.Path(__file__).resolve().parents[2] / 'shared' / 'DOC.md'
 
 FUNCTIONS = {
     'kinds': {name: 'thing' for name in ('is_integer', 'is_number', 'is_name', 'is_kind', 'is_sort', 'is_row', 'is_text', 'is_gaps',
@@ -29,7 +37,17 @@ FUNCTIONS = {
     'leavingpapers': {'leaving_paper': 'text carets some'},
     'leavingchecker': {'lets_leaving': 'text carets some thing'},
     'laddering': {name: 'text carets some' for name in ('is_ladder', 'a_ladder', 'ladders_of', 'how_many_ladders')},
+    'spanning': {'is_needed': 'text span some', 'needed_spans': 'text some', 'fewest_carets': 'text some',
+                 'helping_gaps': 'text carets some'},
+    'spanpapers': {'span_paper': 'text some'},
+    'spanchecker': {'lets_spans': 'text some thing'},
+    'eventkinds': {'is_event': 'thing', 'is_log': 'thing'},
+    'judging': {'shown_along': 'log checker', 'fault_of': 'log checker', 'no_sooner': 'log checker other'},
+    'replaying': {'replayed': 'log'},
+    'eventtexts': {'event_line': 'event', 'log_lines': 'log'},
+    'eventreadings': {'read_event': 'line', 'read_log': 'lines'},
 }
+CHECKER = {'__call__': 'self log', 'shown': 'self log'}
 METHODS = {
     ('texts', 'Text'): {'__init__': 'self rows', 'read': 'cls lines', 'of_rows': '*rows'},
     ('drafts', 'Draft'): {'__init__': 'self rows', 'insert_row': 'self gap row', 'take_row': 'self row',
@@ -37,13 +55,36 @@ METHODS = {
     ('gapsets', 'Gaps'): {'__init__': 'self *gaps', 'lies_in': 'self other', 'all_of': 'cls text', 'read': 'cls words'},
     ('growths', 'Growth'): {'__init__': 'self text way', '__add__': 'self other', '__contains__': 'self thing', '__len__': 'self',
                             '__eq__': 'self other', '__str__': 'self'},
+    ('reaches', 'Reach'): {'__init__': 'self text carets', 'can_go': 'self some', '__or__': 'self other', '__contains__': 'self thing',
+                           '__len__': 'self', '__eq__': 'self other', '__str__': 'self'},
+    ('reaches', 'Widest'): {'__init__': 'self text'},
+    ('reaches', 'CountingReach'): {'__init__': 'self text carets', 'can_go': 'self some'},
+    ('writings', 'Writing'): {'__init__': 'self rows carets', 'put': 'self gap row', 'close_caret': 'self gap', 'go': 'self event',
+                              '__call__': 'self event', 'barred': 'self event', 'tried': 'self *events', 'undo': 'self',
+                              'do_all': 'self *events keep=', 'tally': 'self', 'log': 'self', 'shut': 'self', 'finish': 'self *events',
+                              '__enter__': 'self', '__exit__': 'self kind value trace', '__contains__': 'self thing',
+                              '__len__': 'self', '__eq__': 'self other'},
+    **{('checkers', name): CHECKER for name in ('Checker', 'Sure', 'Hasty', 'CountingSure')},
+    ('checkers', 'Certain'): {'__init__': 'self *words', **CHECKER},
+    ('checkers', 'Counting'): {'__init__': 'self', **CHECKER},
+    ('guarded', 'Guarded'): {'__init__': 'self checker', **CHECKER},
+    ('desk', 'Desk'): {'__init__': 'self', 'say': 'self row', 'counts': 'self'},
 }
-PROPERTIES = {('texts', 'Text'): 'rows', ('gapsets', 'Gaps'): 'members', ('growths', 'Growth'): 'rows way gone fresh'}
+PROPERTIES = {
+    ('texts', 'Text'): 'rows', ('gapsets', 'Gaps'): 'members', ('growths', 'Growth'): 'rows way gone fresh',
+    ('reaches', 'Reach'): 'text carets sure held', ('reaches', 'CountingReach'): 'asked',
+    ('writings', 'Writing'): 'rows carets sure held births moments is_shut', ('checkers', 'Counting'): 'asked',
+}
+# The classes that each class is derived from, if there are any.
+BASES = {
+    'Widest': ['Reach'], 'CountingReach': ['Reach'], 'CountingSure': ['Counting', 'Sure'],
+    **{name: ['Checker'] for name in ('Sure', 'Hasty', 'Certain', 'Counting', 'Guarded')},
+}
 
 
 def parameters(function):
-    stars = {inspect.Parameter.VAR_POSITIONAL: '*', inspect.Parameter.POSITIONAL_OR_KEYWORD: ''}
-    return ' '.join(stars[one.kind] + name for name, one in inspect.signature(function).parameters.items())
+    form = {inspect.Parameter.VAR_POSITIONAL: '*{}', inspect.Parameter.POSITIONAL_OR_KEYWORD: '{}', inspect.Parameter.KEYWORD_ONLY: '{}='}
+    return ' '.join(form[one.kind].format(name) for name, one in inspect.signature(function).parameters.items())
 
 
 class Interface(unittest.TestCase):
@@ -61,7 +102,8 @@ class Interface(unittest.TestCase):
         for (module, name), methods in METHODS.items():
             there = importlib.import_module('surelywrong.' + module)
             made = getattr(there, name)
-            self.assertEqual([made.__module__, made.__bases__], [there.__name__, (object,)])
+            self.assertEqual(made.__module__, there.__name__)
+            self.assertEqual([base.__name__ for base in made.__bases__], BASES.get(name, ['object']))
             for method, expected in methods.items():
                 function = vars(made)[method]
                 self.assertEqual(parameters(getattr(function, '__func__', function)), expected, method)
@@ -71,3 +113,20 @@ class Interface(unittest.TestCase):
             made = getattr(importlib.import_module('surelywrong.' + module), name)
             for one in told.split():
                 self.assertIsInstance(vars(made)[one], property)
+
+    def test_defaults(self):
+        for function, expected in ((Writing.__init__, {'rows': (), 'carets': ()}), (Writing.do_all, {'keep': False}), (Text.__init__, {'rows': ()}),
+                                   (Draft.__init__, {'rows': ()})):
+            found = inspect.signature(function).parameters.items()
+            self.assertEqual({name: one.default for name, one in found if one.default is not one.empty}, expected)
+
+    def test_all_that_the_document_lists(self):
+        if not DOCUMENT.exists():
+            self.skipTest('the document is not here')
+        lines = re.findall(r'^- surelywrong/([a-z]+)[.]py: (.*)[.]$', DOCUMENT.read_text(), re.MULTILINE)
+        self.assertGreater(len(lines), 30)
+        classes = {name: module for module, name in METHODS}
+        for module, told in lines:
+            if module != 'errors':
+                for name in told.split(', '):
+                    self.assertTrue(name in FUNCTIONS.get(module, ()) or classes.get(name) == module, f'{module}: {name}')

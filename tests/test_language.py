@@ -25,7 +25,9 @@ BARRED_WORDS = re.compile(r'\b(typing|typing_extensions|enum|Enum|IntEnum|StrEnu
                           r'contextmanager|\(type\)|Meta|metaclass=')
 # What operators and properties may run stays without them (L5), so the whole package does.
 BARRED_NODES = (ast.Global, ast.AsyncFunctionDef, ast.Await, ast.AsyncFor, ast.AsyncWith, ast.Set, ast.AugAssign, ast.GeneratorExp,
-                ast.AnnAssign, ast.Delete, ast.Try, ast.Div, ast.MatMult, ast.With, ast.Match, ast.Lambda, ast.NamedExpr)
+                ast.AnnAssign, ast.Delete, ast.Div, ast.MatMult, ast.Match, ast.Lambda, ast.NamedExpr)
+# Where the others stand that no operator and no property runs.
+PLACES = {ast.Try: ('desk.py', 'guarded.py'), ast.With: ('writings.py',)}
 
 
 def package_files():
@@ -111,14 +113,37 @@ class Language(unittest.TestCase):
                 docstring = isinstance(node, ast.Expr) and isinstance(node.value, ast.Constant)
                 self.assertTrue(docstring or isinstance(node, (ast.ImportFrom, ast.FunctionDef, ast.ClassDef, ast.Assign)), name)
                 if isinstance(node, ast.Assign):
-                    ast.literal_eval(node.value)
+                    self.plain_or_functions(node.value, [there.name for there in tree.body if getattr(there, 'lineno', 0) < node.lineno
+                                                         and isinstance(there, ast.FunctionDef)])
             bound = [node.name for node in tree.body if isinstance(node, (ast.FunctionDef, ast.ClassDef))]
             bound += [node.targets[0].id for node in tree.body if isinstance(node, ast.Assign)]
             bound += [alias.name for node in tree.body if isinstance(node, ast.ImportFrom) for alias in node.names]
             self.assertEqual(len(bound), len(set(bound)), name)
 
+    def plain_or_functions(self, value, above):
+        """The value is plain, or a dict of functions that are defined above."""
+        if isinstance(value, ast.Dict) and all(isinstance(one, ast.Name) for one in value.values):
+            for key, one in zip(value.keys, value.values):
+                ast.literal_eval(key)
+                self.assertIn(one.id, above)
+        else:
+            ast.literal_eval(value)
+
     def test_no_barred_statements(self):
         self.assertEqual([where for where, _ in nodes(*BARRED_NODES)], [])
+        for kind, places in PLACES.items():
+            for where, _ in nodes(kind):
+                self.assertIn(where.split(':')[0], places)
+        for where, node in nodes(ast.Try):
+            self.assertEqual([node.orelse, node.finalbody], [[], []], where)
+            for handler in node.handlers:
+                self.assertIn(handler.type.id, ('InvalidText', 'TookBack'), where)
+        for where, node in functions():
+            if node.name == '__exit__':
+                for row in node.body:
+                    self.assertIsInstance(row, ast.Assign, where)
+                    self.assertIsInstance(row.targets[0], ast.Attribute, where)
+                    self.assertIsInstance(row.value, ast.Constant, where)
         for where, node in nodes(ast.Constant):
             self.assertNotIsInstance(node.value, (float, complex, bytes), where)
             if isinstance(node.value, str):
@@ -164,12 +189,14 @@ class Language(unittest.TestCase):
                     self.assertNotEqual(node.id, '_', name)
 
     def test_methods(self):
-        own = {node.name for _, node in functions()}
+        # What a Guarded holds is called, too.
+        own = {'_checker', *[node.name for _, node in functions()]}
         for where, node in nodes(ast.Call):
             if isinstance(node.func, ast.Attribute):
                 self.assertIn(node.func.attr, METHODS | own, where)
         for where, node in nodes(ast.Attribute):
-            self.assertFalse(node.attr.startswith('__'), where)
+            if node.attr.startswith('__'):
+                self.assertEqual(ast.unparse(node), 'super().__init__', where)
 
     def test_sets_stand_in_sorted_or_behind_in(self):
         for name, _, tree in parsed():
