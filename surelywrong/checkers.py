@@ -1,4 +1,7 @@
-"""Checkers: called with a log, they answer which complaints they show at its last moment."""
+"""Checkers: called with a log, they answer which complaints they show at its last moment.
+
+Each class has both ways of calling in its own body, as the interface asks of what it lists.
+"""
 
 from surelywrong.complaining import complaints_of
 from surelywrong.errors import NotUsable

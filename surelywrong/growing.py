@@ -1,7 +1,6 @@
 """Texts that grow by ways, and what complaints become in them."""
 
 from surelywrong.complaining import complaints_in
-from surelywrong.errors import NotUsable
 from surelywrong.usable import check_row, check_text, check_way
 
 

@@ -7,7 +7,7 @@ from surelywrong.complaining import complaints_of
 from surelywrong.errors import NotUsable
 from surelywrong.judging import fault_of, no_sooner, shown_along
 from tests import eventoracle
-from tests.helper import Case, TEXT, WORDS
+from tests.helper import Case, WORDS
 from tests.test_checkers import CountingHasty, LOG, NOT_USABLE, Pairs
 
 END, STOP, LET, USE = ('end',), ('stop',), ('let', 'x', 'text'), ('use', 'x', 'num')

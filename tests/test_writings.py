@@ -10,7 +10,7 @@ from surelywrong.sureness import held_ones, sure_ones
 from surelywrong.texts import Text
 from surelywrong.writings import Writing
 from tests import eventoracle
-from tests.helper import BAD_CARETS, Case, ODD, TEXT, is_gap_set, some_carets, some_row, some_texts
+from tests.helper import BAD_CARETS, Case, TEXT, is_gap_set, some_carets, some_row, some_texts
 from tests.test_eventkinds import EVENTS, NO_EVENTS
 from tests.test_texts import THINGS
 
